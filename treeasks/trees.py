@@ -34,3 +34,15 @@ def depths(tree):
     for parent in tree[0]:
         found.append(found[parent] + 1)
     return found
+
+
+def is_place(tree, thing):
+    return is_between(thing, 0, len(tree[0]))
+
+
+def is_tie(tree, thing):
+    return is_between(thing, 1, len(tree[0]))
+
+
+def are_ends(tree, one, other):
+    return is_place(tree, one) and is_place(tree, other) and one != other

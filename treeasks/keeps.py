@@ -1,0 +1,39 @@
+"""Keeps: rising lists of asks' numbers, their loads and their worth."""
+
+from treeasks.asks import look_at_asks
+from treeasks.errors import NoKeep
+from treeasks.numbers import is_between
+from treeasks.ways import way_between
+
+
+def look_at_keep(tree, asks, thing):
+    look_at_asks(tree, asks)
+    if not isinstance(thing, list):
+        raise NoKeep(None)
+    least = 0
+    for place, number in enumerate(thing):
+        if not is_between(number, least, len(asks) - 1):
+            raise NoKeep(place)
+        least = number + 1
+
+
+def loads(tree, asks, keep):
+    look_at_keep(tree, asks, keep)
+    found = [0] * len(tree[0])
+    for number in keep:
+        one, other, size, worth = asks[number]
+        for tie in way_between(tree, one, other):
+            found[tie - 1] += size
+    return found
+
+
+def first_over(tree, asks, keep):
+    for number, load in enumerate(loads(tree, asks, keep)):
+        if load > tree[1][number]:
+            return number + 1
+    return None
+
+
+def worth_of(tree, asks, keep):
+    look_at_keep(tree, asks, keep)
+    return sum([asks[number][3] for number in keep])
