@@ -1,6 +1,9 @@
-"""Trees and odd things that several tests use."""
+"""Trees, odd things, and reckonings by hand that several tests use."""
 
+import copy
+import itertools
 import random
+from fractions import Fraction
 
 
 class Odd:
@@ -46,3 +49,101 @@ def some_asks(tree, how_many, seed=1, most_size=3, most_worth=20):
         one, other = chance.sample(places, 2)
         asks.append((one, other, chance.randint(1, most_size), chance.randint(1, most_worth)))
     return asks
+
+
+def ones(asks):
+    """The same asks, each of size 1."""
+    return [(one, other, 1, worth) for one, other, size, worth in asks]
+
+
+def told(number):
+    return (number.numerator, number.denominator)
+
+
+def path(tree, one, other):
+    """The steps from one place to the other: tuples (tie, "up" or "down")."""
+    ups, downs = [], []
+    while one != other:
+        if one > other:
+            ups.append((one, "up"))
+            one = tree[0][one - 1]
+        else:
+            downs.append((other, "down"))
+            other = tree[0][other - 1]
+    return ups + downs[::-1]
+
+
+def ties_of(tree, ask):
+    return sorted(tie for tie, text in path(tree, ask[0], ask[1]))
+
+
+def depth_of(tree, place):
+    return 0 if place == 0 else 1 + depth_of(tree, tree[0][place - 1])
+
+
+def meeting_depth(tree, ask):
+    """The least depth of a place on the way."""
+    return min(depth_of(tree, tree[0][tie - 1]) for tie in ties_of(tree, ask))
+
+
+def fits(tree, asks, keep):
+    for tie, room in enumerate(tree[1], 1):
+        if sum(asks[number][2] for number in keep if tie in ties_of(tree, asks[number])) > room:
+            return False
+    return True
+
+
+def best_worth(tree, asks):
+    """Of all keeps that fit, gone through one by one."""
+    best = 0
+    for many in range(len(asks) + 1):
+        for keep in itertools.combinations(range(len(asks)), many):
+            if fits(tree, asks, keep):
+                best = max(best, sum(asks[number][3] for number in keep))
+    return best
+
+
+def pile_by_hand(tree, asks, chosen, weight, part):
+    """The keep, prices and rests of the chosen asks, as the rule of rooms alike tells them."""
+    prices = [Fraction(0)] * len(tree[0])
+    rests = [Fraction(0)] * len(asks)
+    pile, keep = [], []
+    for number in sorted(chosen, key=lambda number: (-meeting_depth(tree, asks[number]), number)):
+        ask = asks[number]
+        way = ties_of(tree, ask)
+        rest = ask[3] - weight(ask) * sum(prices[tie - 1] for tie in way)
+        if rest > 0:
+            pile.append(number)
+            rests[number] = rest
+            for tie in way:
+                if depth_of(tree, tie) == meeting_depth(tree, ask) + 1:
+                    prices[tie - 1] += rest / part(ask)
+    for number in pile[::-1]:
+        if fits(tree, asks, keep + [number]):
+            keep.append(number)
+    return sorted(keep), [told(price) for price in prices], [told(rest) for rest in rests]
+
+
+def lists_within(thing):
+    found = [thing] if isinstance(thing, list) else []
+    if isinstance(thing, (list, tuple)):
+        for part in thing:
+            found += lists_within(part)
+    return found
+
+
+def check_own(case, ask, *things):
+    """What is handed in stays; what is told is the asker's own, and is told the same again."""
+    kept = copy.deepcopy(things)
+    first = ask(*things)
+    again = copy.deepcopy(first)
+    case.assertEqual(things, kept)
+    own = lists_within(first)
+    for number, one in enumerate(own):
+        for other in own[:number] + lists_within(things):
+            case.assertIsNot(one, other)
+    for one in own:
+        one.clear()
+    case.assertEqual(things, kept)
+    case.assertEqual(ask(*things), again)
+    case.assertEqual(things, kept)

@@ -220,6 +220,19 @@ class Forms(unittest.TestCase):
                 power = node.right if isinstance(node, ast.BinOp) else node.value
                 self.assertTrue(isinstance(power, ast.Constant) and 0 <= power.value <= 64, where)
 
+    def test_sets_stand_where_they_are_asked(self):
+        for path in files():
+            stands = {}
+            for node in ast.walk(parsed(path)):
+                for part in ast.iter_child_nodes(node):
+                    stands[part] = node
+            for node in [part for part in stands if isinstance(part, ast.Call) and getattr(part.func, "id", "") == "set"]:
+                around = stands[node]
+                while isinstance(around, ast.BinOp) and isinstance(around.op, (ast.Sub, ast.BitAnd, ast.BitOr, ast.BitXor)):
+                    around = stands[around]
+                called = isinstance(around, ast.Call) and getattr(around.func, "id", "") in ("sorted", "len")
+                self.assertTrue(isinstance(around, ast.Compare) or called and not around.keywords, (path, node.lineno))
+
     def test_what_is_walked_at_once_is_not_kept(self):
         for where, node in self.each(ast.Assign, ast.Return):
             if isinstance(node.value, ast.Call):

@@ -1,20 +1,14 @@
 import copy
-import itertools
 import random
 import unittest
 from fractions import Fraction
 
-from tests.cases import Odd, bush, odd_things, row, some_asks, some_trees
+from tests.cases import Odd, best_worth, bush, odd_things, row, some_asks, some_trees, told
 from treeasks.errors import NoAsks, NoPrices, NoTree
-from treeasks.keeps import first_over, worth_of
 from treeasks.prices import bound_of, look_at_prices, spares
 from treeasks.ways import way_between
 
 BIG = 10 ** 59 + 7
-
-
-def told(number):
-    return (number.numerator, number.denominator)
 
 
 def some_prices(tree, seed, most_bottom):
@@ -33,16 +27,6 @@ def spares_by_hand(tree, asks, prices):
 def bound_by_hand(tree, asks, prices):
     paid = sum(room * Fraction(*price) for room, price in zip(tree[1], prices))
     return paid + sum(spares_by_hand(tree, asks, prices))
-
-
-def best_worth(tree, asks):
-    """Of all keeps that fit, gone through one by one."""
-    best = 0
-    for many in range(len(asks) + 1):
-        for keep in itertools.combinations(range(len(asks)), many):
-            if first_over(tree, asks, list(keep)) is None:
-                best = max(best, worth_of(tree, asks, list(keep)))
-    return best
 
 
 class Spares(unittest.TestCase):

@@ -3,7 +3,7 @@
 from treeasks.asks import look_at_asks
 from treeasks.errors import NoKeep
 from treeasks.numbers import is_between
-from treeasks.ways import way_between
+from treeasks.ways import way_of
 
 
 def look_at_keep(tree, asks, thing):
@@ -17,13 +17,22 @@ def look_at_keep(tree, asks, thing):
         least = number + 1
 
 
+def load_with(tree, ask, load):
+    found = list(load)
+    for tie in way_of(tree, ask):
+        found[tie - 1] += ask[2]
+    return found
+
+
+def over_with(tree, ask, load):
+    return [tie for tie in way_of(tree, ask) if load[tie - 1] + ask[2] > tree[1][tie - 1]]
+
+
 def loads(tree, asks, keep):
     look_at_keep(tree, asks, keep)
     found = [0] * len(tree[0])
     for number in keep:
-        one, other, size, worth = asks[number]
-        for tie in way_between(tree, one, other):
-            found[tie - 1] += size
+        found = load_with(tree, asks[number], found)
     return found
 
 

@@ -5,7 +5,7 @@ from treeasks.errors import NoPrices
 from treeasks.fractions import minus, sum_of, times, under
 from treeasks.numbers import is_fraction
 from treeasks.trees import look_at_tree
-from treeasks.ways import way_between
+from treeasks.ways import way_of
 
 
 def is_price(thing):
@@ -24,17 +24,17 @@ def look_at_prices(tree, thing):
         raise NoPrices(min(len(thing), ties))
 
 
-def spare_of(tree, ask, prices):
-    one, other, size, worth = ask
-    paid = sum_of([prices[tie - 1] for tie in way_between(tree, one, other)])
-    spare = minus((worth, 1), times((size, 1), paid))
+def spare_of(tree, ask, weight, prices):
+    # The weight is told by itself: by some rules an ask pays the prices of its way once, whatever its size.
+    paid = sum_of([prices[tie - 1] for tie in way_of(tree, ask)])
+    spare = minus((ask[3], 1), times((weight, 1), paid))
     return spare if under((0, 1), spare) else (0, 1)
 
 
 def spares(tree, asks, prices):
     look_at_asks(tree, asks)
     look_at_prices(tree, prices)
-    return [spare_of(tree, ask, prices) for ask in asks]
+    return [spare_of(tree, ask, ask[2], prices) for ask in asks]
 
 
 def bound_of(tree, asks, prices):

@@ -26,6 +26,10 @@ def way_between(tree, one, other):
     return way
 
 
+def way_of(tree, ask):
+    return way_between(tree, ask[0], ask[1])
+
+
 def meeting_of(tree, one, other):
     look_at_ends(tree, one, other)
     way, meeting = climb(tree, one, other)
@@ -36,6 +40,11 @@ def tops_between(tree, one, other):
     look_at_ends(tree, one, other)
     way, meeting = climb(tree, one, other)
     return [tie for tie in way if tree[0][tie - 1] == meeting]
+
+
+def climbed_between(tree, one, other):
+    meeting = meeting_of(tree, one, other)
+    return [] if one == meeting else way_between(tree, one, meeting)
 
 
 def is_beneath(tree, one, other):
