@@ -51,6 +51,35 @@ def some_asks(tree, how_many, seed=1, most_size=3, most_worth=20):
     return asks
 
 
+def big_trees(how_many, most_room, seed):
+    """Trees of 23 ties."""
+    chance = random.Random(seed)
+    trees = []
+    for turn in range(how_many):
+        reach = chance.choice((1, 2, 4, 23))
+        parents = [chance.randint(max(0, k - reach), k) for k in range(23)]
+        trees.append((parents, [chance.randint(1, most_room) for k in range(23)]))
+    return trees
+
+
+def one_way_asks(tree, how_many, seed, most_worth):
+    """Asks for which there is a pointing: the ties are pointed, then followed from some place."""
+    chance = random.Random(seed)
+    texts = [chance.choice(("up", "down")) for room in tree[1]]
+    leads = {place: [] for place in range(len(tree[1]) + 1)}
+    for tie, text in enumerate(texts, 1):
+        start, end = (tie, tree[0][tie - 1]) if text == "up" else (tree[0][tie - 1], tie)
+        leads[start].append(end)
+    asks = []
+    while len(asks) < how_many:
+        ends = [chance.choice([place for place in leads if leads[place]])]
+        while leads[ends[-1]] and (len(ends) == 1 or chance.random() < 0.8):
+            ends.append(chance.choice(leads[ends[-1]]))
+        one, other = chance.sample((ends[0], ends[-1]), 2)
+        asks.append((one, other, 1, chance.randint(1, most_worth)))
+    return asks
+
+
 def ones(asks):
     """The same asks, each of size 1."""
     return [(one, other, 1, worth) for one, other, size, worth in asks]
@@ -93,14 +122,28 @@ def fits(tree, asks, keep):
     return True
 
 
+def all_keeps(asks):
+    return [keep for many in range(len(asks) + 1) for keep in itertools.combinations(range(len(asks)), many)]
+
+
 def best_worth(tree, asks):
     """Of all keeps that fit, gone through one by one."""
     best = 0
-    for many in range(len(asks) + 1):
-        for keep in itertools.combinations(range(len(asks)), many):
-            if fits(tree, asks, keep):
-                best = max(best, sum(asks[number][3] for number in keep))
+    for keep in all_keeps(asks):
+        if fits(tree, asks, keep):
+            best = max(best, sum(asks[number][3] for number in keep))
     return best
+
+
+def reasons_in(thing):
+    """How many tuples a reason tree has, each as often as it stands."""
+    waiting, count = [thing], 0
+    while waiting:
+        one = waiting.pop()
+        count += 1
+        if one[0] == "split":
+            waiting += one[2:]
+    return count
 
 
 def pile_by_hand(tree, asks, chosen, weight, part):

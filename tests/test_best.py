@@ -1,7 +1,7 @@
-import random
 import unittest
 
-from tests.cases import best_worth, bush, check_own, fits, ones, row, some_asks, some_trees, star
+from tests.cases import (
+    best_worth, big_trees, bush, check_own, fits, one_way_asks, ones, row, some_asks, some_trees, star)
 from treeasks.best import best_keep
 from treeasks.errors import NoAsks, NoPointing, NoShare, NoTree
 from treeasks.keeps import look_at_keep, worth_of
@@ -10,35 +10,6 @@ from treeasks.prices import bound_of, look_at_prices
 from treeasks.rings import is_ring, pointed
 
 TRIANGLE = [(1, 2, 1, 1), (2, 3, 1, 1), (3, 1, 1, 1)]
-
-
-def big_trees(how_many, most_room, seed):
-    """Trees of 23 ties."""
-    chance = random.Random(seed)
-    trees = []
-    for turn in range(how_many):
-        reach = chance.choice((1, 2, 4, 23))
-        parents = [chance.randint(max(0, k - reach), k) for k in range(23)]
-        trees.append((parents, [chance.randint(1, most_room) for k in range(23)]))
-    return trees
-
-
-def one_way_asks(tree, how_many, seed, most_worth):
-    """Asks for which there is a pointing: the ties are pointed, then followed from some place."""
-    chance = random.Random(seed)
-    texts = [chance.choice(("up", "down")) for room in tree[1]]
-    leads = {place: [] for place in range(len(tree[1]) + 1)}
-    for tie, text in enumerate(texts, 1):
-        start, end = (tie, tree[0][tie - 1]) if text == "up" else (tree[0][tie - 1], tie)
-        leads[start].append(end)
-    asks = []
-    while len(asks) < how_many:
-        ends = [chance.choice([place for place in leads if leads[place]])]
-        while leads[ends[-1]] and (len(ends) == 1 or chance.random() < 0.8):
-            ends.append(chance.choice(leads[ends[-1]]))
-        one, other = chance.sample((ends[0], ends[-1]), 2)
-        asks.append((one, other, 1, chance.randint(1, most_worth)))
-    return asks
 
 
 class Best(unittest.TestCase):

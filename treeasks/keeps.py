@@ -17,15 +17,23 @@ def look_at_keep(tree, asks, thing):
         least = number + 1
 
 
+def lay_on(ask, way, load):
+    for tie in way:
+        load[tie - 1] += ask[2]
+
+
 def load_with(tree, ask, load):
     found = list(load)
-    for tie in way_of(tree, ask):
-        found[tie - 1] += ask[2]
+    lay_on(ask, way_of(tree, ask), found)
     return found
 
 
+def over_on(tree, ask, way, load):
+    return [tie for tie in way if load[tie - 1] + ask[2] > tree[1][tie - 1]]
+
+
 def over_with(tree, ask, load):
-    return [tie for tie in way_of(tree, ask) if load[tie - 1] + ask[2] > tree[1][tie - 1]]
+    return over_on(tree, ask, way_of(tree, ask), load)
 
 
 def loads(tree, asks, keep):

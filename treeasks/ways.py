@@ -30,6 +30,10 @@ def way_of(tree, ask):
     return way_between(tree, ask[0], ask[1])
 
 
+def ways_of(tree, asks):
+    return [way_of(tree, ask) for ask in asks]
+
+
 def meeting_of(tree, one, other):
     look_at_ends(tree, one, other)
     way, meeting = climb(tree, one, other)
