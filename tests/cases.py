@@ -10,6 +10,16 @@ class Odd:
     """A thing that is like nothing else."""
 
 
+class Equal:
+    """A thing that equals all others."""
+
+    def __eq__(self, other):
+        return True
+
+    def __hash__(self):
+        return hash("room")
+
+
 def odd_things():
     """Things that are no whole number; none has a number with a point within."""
     return [None, True, False, "", "1", "tree", [], [1], [0, 1], (), (1,), (1, 2, 3), {}, {1: 2}, {1}, b"1",
@@ -87,6 +97,10 @@ def ones(asks):
 
 def told(number):
     return (number.numerator, number.denominator)
+
+
+def some_prices(tree, chance):
+    return [told(Fraction(chance.randint(0, 20), chance.randint(1, 6))) for room in tree[1]]
 
 
 def path(tree, one, other):

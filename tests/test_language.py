@@ -17,6 +17,7 @@ OWN_METHODS = set(
     "items join keys ljust lower lstrip partition pop remove replace reverse rfind rjust rpartition rsplit rstrip "
     "setdefault split splitlines startswith strip update upper values zfill bit_length".split())
 WALKED_AT_ONCE = {"zip", "enumerate", "reversed", "range", "items", "keys", "values"}
+CHANGES = {"append", "clear", "extend", "insert", "pop", "remove", "reverse", "setdefault", "update"}
 TWO_UNDERSCORES = {"__init__", "__eq__", "__repr__", "__str__", "__len__"}
 NOT_A_NAME = set(
     "register mro elements open input version_info with_traceback add_note attrgetter breakpoint builtins compile "
@@ -239,6 +240,72 @@ class Forms(unittest.TestCase):
                 called = node.value.func
                 name = called.id if isinstance(called, ast.Name) else getattr(called, "attr", "")
                 self.assertNotIn(name, WALKED_AT_ONCE, where)
+
+
+    def test_keywords(self):
+        allowed = {"sorted": {"key", "reverse"}, "min": {"key", "default"}, "max": {"key", "default"}, "sum": {"start"},
+                   "enumerate": {"start"}, "zip": {"strict"}}
+        for where, node in self.each(ast.Call):
+            names = {word.arg for word in node.keywords}
+            self.assertLessEqual(names, allowed.get(getattr(node.func, "id", ""), set()), where)
+
+    def test_what_a_loop_walks_is_not_changed_in_it(self):
+        for where, node in self.each(ast.For):
+            walked = {name.id for name in ast.walk(node.iter) if isinstance(name, ast.Name)} - OWN_NAMES
+            for part in [part for inner in node.body for part in ast.walk(inner)]:
+                if isinstance(part, ast.Call) and isinstance(part.func, ast.Attribute) and part.func.attr in CHANGES:
+                    self.assertNotIn(getattr(part.func.value, "id", ""), walked, where)
+                if isinstance(part, ast.Subscript) and isinstance(part.ctx, ast.Store):
+                    self.assertNotIn(getattr(part.value, "id", ""), walked, where)
+
+    def test_handlers_take_refusals_alone(self):
+        refusals = names_at_top(parsed(PACKAGE / "errors.py"))
+        for where, node in self.each(ast.ExceptHandler):
+            for name in node.type.elts if isinstance(node.type, ast.Tuple) else [node.type]:
+                self.assertIn(name.id, refusals, where)
+        for where, node in self.each(ast.Raise):
+            self.assertIn(node.exc.func.id, refusals, where)
+            self.assertTrue(node.cause is None or getattr(node.cause, "value", "") is None, where)
+
+    def test_lists_and_dicts_of_the_top_are_only_read(self):
+        for path in files():
+            tree = parsed(path)
+            tops = {node.targets[0].id for node in tree.body
+                    if isinstance(node, ast.Assign) and isinstance(node.value, (ast.List, ast.Dict))}
+            for node in tree.body:
+                if isinstance(node, ast.Assign) and isinstance(node.value, (ast.List, ast.Dict)):
+                    within = list(ast.walk(node.value))[1:]
+                    self.assertFalse([part for part in within if isinstance(part, (ast.List, ast.Dict))], path)
+            stands = {part: node for node in ast.walk(tree) for part in ast.iter_child_nodes(node)}
+            for name in [part for part in stands if isinstance(part, ast.Name) and part.id in tops]:
+                around = stands[name]
+                if isinstance(name.ctx, ast.Load):
+                    self.assertTrue(
+                        isinstance(around, ast.Compare)
+                        or isinstance(around, ast.Subscript) and isinstance(around.ctx, ast.Load)
+                        or isinstance(around, ast.Attribute) and around.attr == "get", (path, name.lineno))
+
+
+class Classes(unittest.TestCase):
+    def test_no_name_is_a_method_and_a_value(self):
+        methods, values = own_methods(), set()
+        for path in files():
+            for node in ast.walk(parsed(path)):
+                if isinstance(node, ast.Attribute) and isinstance(node.ctx, ast.Store):
+                    values.add(node.attr)
+        self.assertFalse(methods & values)
+        taken = {name for kind in (str, int, list, dict, set, bytes) for name in dir(kind)}
+        self.assertFalse(values & taken)
+        self.assertFalse(methods & taken - TWO_UNDERSCORES)
+        self.assertFalse((methods | values) & {"args", "encode", "format"})
+
+    def test_methods_stand_once(self):
+        for path in files():
+            tree = parsed(path)
+            for node in tree.body:
+                if isinstance(node, ast.ClassDef):
+                    names = [part.name for part in node.body if isinstance(part, ast.FunctionDef)]
+                    self.assertEqual(len(names), len(set(names)), path)
 
 
 if __name__ == "__main__":

@@ -2,8 +2,9 @@ import random
 import unittest
 from fractions import Fraction
 
-from tests.cases import (best_worth, bush, check_own, fits, odd_things, pile_by_hand, row, some_asks, some_trees, star,
-                         ties_of, told)
+from tests.cases import (
+    best_worth, bush, check_own, fits, odd_things, pile_by_hand, row, some_asks, some_prices, some_trees, star, ties_of,
+    told)
 from treeasks.errors import NoAsks, NoPrices, NoShare, NoTree
 from treeasks.keeps import worth_of
 from treeasks.mixed import keep_mixed, mixed_bound
@@ -33,10 +34,6 @@ def small_cases():
 
 def is_wide(tree, ask):
     return ask[2] > Fraction(tree[1][0], 2)
-
-
-def some_prices(tree, chance):
-    return [told(Fraction(chance.randint(0, 20), chance.randint(1, 6))) for room in tree[1]]
 
 
 def mixed_by_hand(tree, asks, pieces, units):

@@ -5,7 +5,7 @@ import unittest
 from fractions import Fraction
 
 from tests.cases import (
-    Odd, all_keeps, best_worth, bush, fits, odd_things, reasons_in, row, some_asks, some_trees, star, ties_of)
+    Equal, Odd, all_keeps, best_worth, fits, odd_things, reasons_in, row, some_asks, some_trees, star, ties_of)
 from treeasks.errors import NoAsks, NoTree
 from treeasks.reasons import lets_reasons
 
@@ -216,6 +216,13 @@ class Lets(unittest.TestCase):
             self.lets(99, ("split", 0, thing, FREE), False)
             self.lets(99, ("split", 0, FREE, thing), False)
             self.lets(99, ("split", 0, thing, thing), False)
+
+    def test_things_that_equal_all_others(self):
+        equal = Equal()
+        self.assertEqual(equal, "prices")
+        for thing in (equal, (equal, 1, [0, 0]), ("prices", equal, [0, 0]), ("prices", 1, equal),
+                      ("prices", 1, [0, equal]), (equal, 1), ("full", equal), (equal, 0, FREE, FREE), ("split", equal, FREE, FREE)):
+            self.lets(99, thing, False)
 
     def test_by_hand(self):
         chance = random.Random(4)

@@ -124,6 +124,13 @@ class Seeking(unittest.TestCase):
                 for most in (1, 2, 50, 4000):
                     self.checked(tree, some_asks(tree, 30, seed, size, worth), most)
 
+    def test_greatest_rates(self):
+        # The greatest worth by size there is, beside one that is no whole number.
+        for worth in (10 ** 12 - 1, 10 ** 12):
+            asks = [(0, 1, 1, worth), (0, 1, 1, worth), (1, 2, 2, 5)]
+            told = self.checked(row(2, 1), asks, 15)
+            self.assertEqual((told[0], worth_of(row(2, 1), asks, told[1])), ("best", worth))
+
     def test_great_sizes(self):
         # Sizes with no common part: rates that can't all be told over one bottom.
         sizes = (999983, 999979, 999961, 999959, 999953, 999931, 999917, 999907)

@@ -1,4 +1,8 @@
-"""What whole numbers and fractions are."""
+"""What whole numbers and fractions are, and which numbers a text writes."""
+
+FIGURES = "0123456789"
+# The most that a number in a text has; all tops and bottoms of prices that are told here have fewer.
+MOST_FIGURES = 70
 
 
 def is_whole(thing):
@@ -23,3 +27,10 @@ def is_fraction(thing):
     if not is_whole(top) or not is_whole(bottom):
         return False
     return bottom >= 1 and greatest_common(top, bottom) == 1
+
+
+def whole_in(text, most_figures):
+    # The number from 0 on that the text writes in so many figures at most, None where it writes none.
+    if not 1 <= len(text) <= most_figures or not all([sign in FIGURES for sign in text]):
+        return None
+    return int(text) if text == "0" or text[0] != "0" else None
